@@ -1,0 +1,123 @@
+"""Lanes and calls: what a call does to a lane, and what calls see of a lane."""
+
+from deadlane.errors import NoCalls, NoCar, NoLane
+
+CARS = 60
+MOST_CALLS = 200
+
+
+def is_whole(value):
+    """Tell whether `value` is an integer, which True and False are not."""
+    return isinstance(value, int) and not isinstance(value, bool)
+
+
+def is_car(value):
+    """Tell whether `value` is a car."""
+    return is_whole(value) and 0 <= value < CARS
+
+
+def are_cars(value):
+    """Tell whether `value` is a tuple of cars, different or not."""
+    return isinstance(value, tuple) and all([is_car(item) for item in value])
+
+
+def is_lane(value):
+    """Tell whether `value` is a lane."""
+    # Items that are no cars might have no hash, so they must not come to the set.
+    return are_cars(value) and len(set(value)) == len(value)
+
+
+def are_calls(value):
+    """Tell whether `value` is calls."""
+    return are_cars(value) and 1 <= len(value) <= MOST_CALLS
+
+
+def check_lane(value):
+    """Raise NoLane if `value` is not a lane."""
+    if not is_lane(value):
+        raise NoLane("a lane is a tuple of different cars")
+
+
+def check_calls(value):
+    """Raise NoCalls if `value` is not calls."""
+    if not are_calls(value):
+        raise NoCalls("calls are a tuple of 1 to 200 cars")
+
+
+def check_car(value):
+    """Raise NoCar if `value` is not a car."""
+    if not is_car(value):
+        raise NoCar("a car is an integer from 0 to 59")
+
+
+def step(lane, car):
+    """Return the lane after a call; the arguments are checked already."""
+    if car in lane:
+        return lane[:lane.index(car)]
+    return lane + (car,)
+
+
+def play(lane, calls):
+    """Return the lane after calls, one after the other; the arguments are checked already."""
+    for car in calls:
+        lane = step(lane, car)
+    return lane
+
+
+def fixed_size(lane, calls):
+    """Return the number of cars in the fixed part; the arguments are checked already."""
+    for at, car in enumerate(lane):
+        if car in calls:
+            return at
+    return len(lane)
+
+
+def called(lane, car):
+    """Return the lane after a call."""
+    check_lane(lane)
+    check_car(car)
+    return step(lane, car)
+
+
+def leaving(lane, car):
+    """Return the cars that leave at a call, in their order in the lane."""
+    check_lane(lane)
+    check_car(car)
+    if car in lane:
+        return lane[lane.index(car):]
+    return ()
+
+
+def after_calls(lane, calls):
+    """Return the lane after a day."""
+    check_lane(lane)
+    check_calls(calls)
+    return play(lane, calls)
+
+
+def lanes_from(lane, calls):
+    """Yield the lane, then the lane after each call of the endlessly repeated day."""
+    check_lane(lane)
+    check_calls(calls)
+    yield lane
+    while True:
+        for car in calls:
+            lane = step(lane, car)
+            yield lane
+
+
+def fixed_part(lane, calls):
+    """Return the cars before the first one that is called in a day."""
+    check_lane(lane)
+    check_calls(calls)
+    return lane[:fixed_size(lane, calls)]
+
+
+def case_of(lane, calls):
+    """Return the first car behind the fixed part, or None if there is none."""
+    check_lane(lane)
+    check_calls(calls)
+    size = fixed_size(lane, calls)
+    if size < len(lane):
+        return lane[size]
+    return None

@@ -1,0 +1,108 @@
+"""Values and a slow model that several tests share."""
+
+from itertools import permutations, product
+
+CALLS = (0, 1, 2, 1)
+
+
+def nested(levels):
+    value = (0,)
+    for _ in range(levels):
+        value = (value,)
+    return value
+
+
+class Thing:
+    """A value of a foreign class, which has no hash and equals everything."""
+
+    def __eq__(self, other):
+        return True
+
+
+def common_wrong():
+    """Values that are neither a lane, nor calls, nor a car, nor days, nor a case; new at each call."""
+    return [
+        "", "0", "0 1", "-", b"", b"\x00\x01", True, False, -1, -10 ** 63, 10 ** 64, 10 ** 5000,
+        [], [0], [0, 1], [None], {}, {0: 1}, {None: 0}, set(), {0, 1}, frozenset({0}), range(2), iter((0, 1)),
+        (True,), (False,), (0, True), (False, 1), (None,), (0, None), (60,), (-1,), (0, 60), (0, -1),
+        ("0",), (b"0",), ("",), ([],), ([0],), ({},), (set(),), ((),), ((0,),), (0, (1,)), (10 ** 63,), nested(18),
+        tuple(range(61)), Thing(), Thing, (Thing(),), object(), len, int,
+    ]
+
+
+def wrong_lanes():
+    return [*common_wrong(), None, 0, 59, (0, 0), (0, 1, 0), (59, 3, 59), tuple(range(60)) + (0,), (7,) * 300]
+
+
+def wrong_calls():
+    return [*common_wrong(), None, 0, 59, (), (0,) * 201, tuple(range(60)) * 4, (1,) * 300]
+
+
+def wrong_cars():
+    return [*common_wrong(), None, (), (0,), 60, 61, 10 ** 30]
+
+
+def wrong_days():
+    return [*common_wrong(), None, (), (0,), 10 ** 30 + 1, 10 ** 31, -10 ** 30]
+
+
+def wrong_cases():
+    """Values that are no case of CALLS."""
+    return [*common_wrong(), (), (0,), 3, 59, 60, 10 ** 30]
+
+
+def wrong_ends():
+    """Lanes that are no end lane of CALLS."""
+    return [(1, 2), (2,), (0, 1), (0, 1, 2), (2, 1, 0), (3,), (7, 1), (7, 2, 1), (0, 7), (7, 0), tuple(range(60))]
+
+
+def all_calls(cars, most):
+    """All calls of the first so many cars, 1 to `most` of them."""
+    for size in range(1, most + 1):
+        yield from product(range(cars), repeat=size)
+
+
+def all_lanes(cars):
+    """All lanes of these cars."""
+    cars = sorted(cars)
+    for size in range(len(cars) + 1):
+        yield from permutations(cars, size)
+
+
+def long_calls():
+    """Some long calls of many cars."""
+    return [
+        tuple(range(60)),
+        tuple(range(59, -1, -1)),
+        tuple(at * at * 7 // 3 % 60 for at in range(200)),
+        tuple(at * 11 % 37 for at in range(150)),
+        tuple((at * at * at + at // 5) % 13 for at in range(90)),
+        (59,) * 200,
+        (0, 59) * 100,
+    ]
+
+
+def slow_call(lane, car):
+    """The lane after a call, car by car."""
+    kept = []
+    for other in lane:
+        if other == car:
+            return tuple(kept)
+        kept.append(other)
+    return (*kept, car)
+
+
+def slow_day(lane, calls):
+    """The lane after a day, call by call."""
+    for car in calls:
+        lane = slow_call(lane, car)
+    return lane
+
+
+def crossed(calls):
+    """Whether two cars cross in calls."""
+    indexes = range(len(calls))
+    return any(
+        calls[i] == calls[k] and calls[j] == calls[m] and calls[i] != calls[j]
+        for i in indexes for j in indexes[i + 1:] for k in indexes[j + 1:] for m in indexes[k + 1:]
+    )

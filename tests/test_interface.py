@@ -1,0 +1,85 @@
+"""The names, arguments and files of the interface."""
+
+import ast
+import importlib
+import inspect
+import unittest
+from pathlib import Path
+
+from tests.samples import CALLS
+
+PACKAGE = Path(__file__).resolve().parent.parent / "deadlane"
+
+FUNCTIONS = {
+    "lanes": {
+        "is_lane": "(value)",
+        "are_calls": "(value)",
+        "called": "(lane, car)",
+        "leaving": "(lane, car)",
+        "after_calls": "(lane, calls)",
+        "lanes_from": "(lane, calls)",
+        "fixed_part": "(lane, calls)",
+        "case_of": "(lane, calls)",
+    },
+    "days": {
+        "end_lane": "(calls, case)",
+        "day_map": "(calls)",
+        "after_days": "(lane, calls, *, days=1)",
+        "cycles_of": "(calls)",
+        "period": "(lane, calls)",
+        "day_before": "(lane, calls)",
+        "count_before": "(lane, calls)",
+    },
+}
+
+ERRORS = [
+    "NoLane", "NoCar", "NoCalls", "NoCase", "NoDays", "NotEnd", "NoMoment", "NoIndex", "NoMap", "NoSize",
+    "NoProgram", "Nothing", "NoOperation", "NoText", "NoRow",
+]
+
+
+def defined_in(name):
+    tree = ast.parse((PACKAGE / f"{name}.py").read_text())
+    return [node.name for node in tree.body if isinstance(node, (ast.FunctionDef, ast.ClassDef))]
+
+
+class Interface(unittest.TestCase):
+    def test_functions_and_their_arguments(self):
+        for file, functions in FUNCTIONS.items():
+            module = importlib.import_module(f"deadlane.{file}")
+            for name, arguments in functions.items():
+                with self.subTest(file=file, name=name):
+                    self.assertIn(name, defined_in(file))
+                    self.assertEqual(str(inspect.signature(getattr(module, name))), arguments)
+
+    def test_days_are_passed_by_keyword_only(self):
+        days = importlib.import_module("deadlane.days")
+        with self.assertRaises(TypeError):
+            days.after_days((), CALLS, 2)
+
+
+class Errors(unittest.TestCase):
+    def setUp(self):
+        self.errors = importlib.import_module("deadlane.errors")
+
+    def test_they_are_defined_in_their_file(self):
+        self.assertEqual(sorted(defined_in("errors")), sorted(["LaneError", *ERRORS]))
+
+    def test_lane_error_is_a_value_error(self):
+        self.assertEqual(self.errors.LaneError.__bases__, (ValueError,))
+
+    def test_the_others_are_direct_subclasses(self):
+        for name in ERRORS:
+            with self.subTest(name=name):
+                self.assertEqual(getattr(self.errors, name).__bases__, (self.errors.LaneError,))
+
+    def test_they_take_a_message(self):
+        for name in ["LaneError", *ERRORS]:
+            with self.subTest(name=name):
+                with self.assertRaises(ValueError) as caught:
+                    raise getattr(self.errors, name)("what went wrong")
+                self.assertEqual(str(caught.exception), "what went wrong")
+
+
+if __name__ == "__main__":
+    unittest.main()
