@@ -1,7 +1,7 @@
 """Days: what becomes of a lane when calls are repeated every day."""
 
 from deadlane.errors import NoCase, NoDays, NotEnd
-from deadlane.lanes import case_of, check_calls, check_lane, fixed_part, is_car, is_whole, play
+from deadlane.lanes import check_calls, check_lane, end_of, is_car, is_whole, parts_of
 
 MOST_DAYS = 10 ** 30
 
@@ -19,15 +19,24 @@ def check_case(value, calls):
         raise NoCase("a case is None or a car that is called")
 
 
-def cases_of(calls):
-    """Return the cases of the calls: None, then the cars in ascending order."""
-    return [None, *sorted(set(calls))]
-
-
-def case_after(case, calls):
-    """Return the case after a day that begins with a case."""
-    # The cars behind the innermost one cannot change when it leaves or comes.
+def leads_of(calls):
+    """Return the day map of calls that are checked already."""
+    cars = sorted(set(calls))
+    # Under each car the case with which the day began if this car is the innermost one now.
+    begun = {car: car for car in cars}
+    begun_without = None
     for car in calls:
+        begun_without, begun[car] = begun[car], begun_without
+    leads = {case: None for case in [None, *cars]}
+    for car, case in begun.items():
+        leads[case] = car
+    return leads
+
+
+def case_before(case, calls):
+    """Return the case with which a day began that ends with a case."""
+    # A call exchanges no car and its car, so the same calls in the other direction lead back.
+    for car in calls[::-1]:
         if case is None:
             case = car
         elif case == car:
@@ -36,19 +45,44 @@ def case_after(case, calls):
 
 
 def cycle_from(leads, first):
-    """Return the list of the cases to which the day map leads from the first one on, which it begins with."""
+    """Return the list of the keys to which `leads` leads from the first one on, which it begins with."""
     cycle = [first]
-    case = leads[first]
-    while case != first:
-        cycle.append(case)
-        case = leads[case]
+    key = leads[first]
+    while key != first:
+        cycle.append(key)
+        key = leads[key]
     return cycle
+
+
+def cycles_in(leads):
+    """Return the cycles of a dict that leads from each key to another one, in the order of their first keys."""
+    seen = set()
+    cycles = []
+    for first in leads:
+        if first not in seen:
+            cycle = cycle_from(leads, first)
+            cycles.append(cycle)
+            for key in cycle:
+                seen.add(key)
+    return cycles
+
+
+def lane_after(lane, calls, days):
+    """Return the lane after any number of days; the arguments are checked already."""
+    if days == 0:
+        return lane
+    fixed, case = parts_of(lane, calls)
+    cycle = cycle_from(leads_of(calls), case)
+    # Only cases repeat from the very begin, lanes from the end of the first day on.
+    return fixed + end_of(cycle[(days - 1) % len(cycle)], calls)
 
 
 def case_ending_in(lane, calls):
     """Return the case whose end lane this lane is; raise NotEnd if there is none."""
-    for case in cases_of(calls):
-        if end_lane(calls, case) == lane:
+    # Different cases end in different ones, so only one day can have led to this lane.
+    if not lane or lane[0] in calls:
+        case = case_before(lane[0] if lane else None, calls)
+        if end_of(case, calls) == lane:
             return case
     raise NotEnd("the lane is not an end lane of the calls")
 
@@ -57,15 +91,13 @@ def end_lane(calls, case):
     """Return the end lane of a case."""
     check_calls(calls)
     check_case(case, calls)
-    # Cars behind the innermost one leave with it during the day, so any lane of the case will do.
-    lane = () if case is None else (case,)
-    return play(lane, calls)
+    return end_of(case, calls)
 
 
 def day_map(calls):
     """Return the dict that leads from each case to the case of its end lane."""
     check_calls(calls)
-    return {case: case_after(case, calls) for case in cases_of(calls)}
+    return leads_of(calls)
 
 
 def after_days(lane, calls, *, days=1):
@@ -73,41 +105,28 @@ def after_days(lane, calls, *, days=1):
     check_lane(lane)
     check_calls(calls)
     check_days(days)
-    if days == 0:
-        return lane
-    cycle = cycle_from(day_map(calls), case_of(lane, calls))
-    # Only cases repeat from the very begin, lanes from the end of the first day on.
-    last_case = cycle[(days - 1) % len(cycle)]
-    return fixed_part(lane, calls) + end_lane(calls, last_case)
+    return lane_after(lane, calls, days)
 
 
 def cycles_of(calls):
     """Return the cycles of the day map, in the order of their first cases."""
-    leads = day_map(calls)
-    seen = set()
-    cycles = []
-    for first in leads:
-        if first not in seen:
-            cycle = cycle_from(leads, first)
-            cycles.append(cycle)
-            for case in cycle:
-                seen.add(case)
-    return cycles
+    return cycles_in(day_map(calls))
 
 
 def period(lane, calls):
     """Return the least number of days after which the lanes at the ends of days come again."""
     check_lane(lane)
     check_calls(calls)
-    return len(cycle_from(day_map(calls), case_of(lane, calls)))
+    _, case = parts_of(lane, calls)
+    return len(cycle_from(leads_of(calls), case))
 
 
 def day_before(lane, calls):
     """Return the end lane from which a day leads to this one."""
     check_lane(lane)
     check_calls(calls)
-    cycle = cycle_from(day_map(calls), case_ending_in(lane, calls))
-    return end_lane(calls, cycle[-1])
+    case = case_ending_in(lane, calls)
+    return end_of(case_before(case, calls), calls)
 
 
 def count_before(lane, calls):

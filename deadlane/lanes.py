@@ -18,7 +18,13 @@ def is_car(value):
 
 def are_cars(value):
     """Tell whether `value` is a tuple of cars, different or not."""
-    return isinstance(value, tuple) and all([is_car(item) for item in value])
+    if not isinstance(value, tuple):
+        return False
+    for item in value:
+        # Nearly all items are plain integers, and a call of is_car for each would take most of the time.
+        if (type(item) is not int or not 0 <= item < CARS) and not is_car(item):
+            return False
+    return True
 
 
 def is_lane(value):
@@ -57,19 +63,40 @@ def step(lane, car):
     return lane + (car,)
 
 
+def parts_of(lane, calls):
+    """Return the fixed part of a lane and its case; the arguments are checked already."""
+    cars = set(calls)
+    for at, car in enumerate(lane):
+        if car in cars:
+            return lane[:at], car
+    return lane, None
+
+
+def cars_left(calls, at):
+    """Return the lane after the last call if it is empty before the call with the index `at`."""
+    lasts = {car: index for index, car in enumerate(calls)}
+    left = []
+    while at < len(calls):
+        car = calls[at]
+        if at < lasts[car]:
+            # Whatever comes behind a car that is called again leaves with it.
+            at = calls.index(car, at + 1)
+        else:
+            left.append(car)
+        at += 1
+    return tuple(left)
+
+
+def end_of(case, calls):
+    """Return the end lane of a case; the arguments are checked already."""
+    # The innermost car leaves at its first call, and all cars behind it leave with it.
+    return cars_left(calls, 0 if case is None else calls.index(case) + 1)
+
+
 def play(lane, calls):
     """Return the lane after calls, one after the other; the arguments are checked already."""
-    for car in calls:
-        lane = step(lane, car)
-    return lane
-
-
-def fixed_size(lane, calls):
-    """Return the number of cars in the fixed part; the arguments are checked already."""
-    for at, car in enumerate(lane):
-        if car in calls:
-            return at
-    return len(lane)
+    fixed, case = parts_of(lane, calls)
+    return fixed + end_of(case, calls)
 
 
 def called(lane, car):
@@ -110,14 +137,13 @@ def fixed_part(lane, calls):
     """Return the cars before the first one that is called in a day."""
     check_lane(lane)
     check_calls(calls)
-    return lane[:fixed_size(lane, calls)]
+    fixed, _ = parts_of(lane, calls)
+    return fixed
 
 
 def case_of(lane, calls):
     """Return the first car behind the fixed part, or None if there is none."""
     check_lane(lane)
     check_calls(calls)
-    size = fixed_size(lane, calls)
-    if size < len(lane):
-        return lane[size]
-    return None
+    _, case = parts_of(lane, calls)
+    return case

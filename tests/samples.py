@@ -46,6 +46,74 @@ def wrong_days():
     return [*common_wrong(), None, (), (0,), 10 ** 30 + 1, 10 ** 31, -10 ** 30]
 
 
+def wrong_moments():
+    return [*common_wrong(), None, (), (0,), 10 ** 36 + 1, 10 ** 37, -10 ** 36]
+
+
+def wrong_indexes():
+    return [*common_wrong(), None, (), (0,), 10 ** 30 + 1, 10 ** 36, -10 ** 30]
+
+
+def wrong_sizes():
+    return [*common_wrong(), None, (), (0,), 61, 200, 10 ** 30, -60]
+
+
+def same_map(cars):
+    """The case map of so many cars in which all stay."""
+    return {None: None, **{car: car for car in range(cars)}}
+
+
+def wrong_maps():
+    return [
+        *common_wrong(), None, (), 0, ((None, None),), [(None, None)], {None: 0, 0: 0}, {None: None, 0: None},
+        {None: 1, 0: None}, {None: 0, 0: 1}, {None: None, 0: 1, 1: 1}, {None: None, 0: 1, 1: 2}, {None: None, 0: 1},
+        {0: 0}, {0: 1, 1: 0}, {None: None, True: True}, {None: True, True: None}, {None: None, False: False},
+        {None: True, 1: None}, {None: None, 1: True}, {None: False, 0: None}, {None: None, 60: 60},
+        {None: 60, 60: None}, {None: None, -1: -1}, {None: None, "0": "0"}, {None: None, (0,): (0,)},
+        {None: [], 0: None}, {None: None, 0: [0]}, {None: {}, 0: None}, {None: Thing(), 0: None}, {Thing: Thing},
+        {None: None, 0: set()}, {"": None, None: ""}, {None: None, 10 ** 63: 10 ** 63}, same_map(61),
+    ]
+
+
+def wrong_small_maps():
+    """Values that are no case map of at most 9 cars."""
+    return [*wrong_maps(), same_map(10), same_map(60), {None: 59, **{car: car for car in range(50, 59)}, 59: None}]
+
+
+def levels(count, times=2):
+    """A program of this depth, with one step on each level."""
+    program = (0,)
+    for _ in range(count - 1):
+        program = ((times, program),)
+    return program
+
+
+def steps_in_all(count):
+    """A program of this number of steps in all, from 187 to 246, and four steps of its own."""
+    repeated = (2, tuple(range(60)))
+    return (repeated, repeated, repeated, (3, (7,) * (count - 184)))
+
+
+def many_times():
+    """A value of eight levels in which the same tuple stands again and again."""
+    value = (0,) * 60
+    for _ in range(7):
+        value = ((2, value),) * 60
+    return value
+
+
+def wrong_programs():
+    return [
+        *common_wrong(), None, (), 0, 59, (0,) * 61, tuple(range(60)) + (0,), (7,) * 300, ((2, (0,) * 61),),
+        steps_in_all(201), levels(9), levels(9, times=10 ** 30), many_times(), (levels(8), 0), (2, (0,)),
+        ((0, (1,)),), ((-1, (1,)),), ((10 ** 30 + 1, (1,)),), ((True, (1,)),), ((False, (1,)),), ((None, (1,)),),
+        (("2", (1,)),), ((2, ()),), ((2,),), ((2, (1,), 3),), ((2, (1,), (1,)),), (((1,), 2),), ((2, 1),),
+        ((2, [1]),), ([2, (1,)],), ((2, (True,)),), ((2, (60,)),), ((2, (-1,)),), ((2, (None,)),), ((2, None),),
+        (0, (2, (1, ()))), (0, (2, (1, (3, ())))), ((2, {0: 1}),), (0, {}), ((2, (1,)), []), ((2, (Thing(),)),),
+        ((Thing(), (1,)),),
+    ]
+
+
 def wrong_cases():
     """Values that are no case of CALLS."""
     return [*common_wrong(), (), (0,), 3, 59, 60, 10 ** 30]
@@ -106,3 +174,21 @@ def crossed(calls):
         calls[i] == calls[k] and calls[j] == calls[m] and calls[i] != calls[j]
         for i in indexes for j in indexes[i + 1:] for k in indexes[j + 1:] for m in indexes[k + 1:]
     )
+
+
+def slow_map(calls):
+    """The case map of calls, exchange by exchange, with the cars that they call."""
+    leads = {}
+    for case in [None, *sorted(set(calls))]:
+        now = case
+        for car in calls:
+            now = {None: car, car: None}.get(now, now)
+        leads[case] = now
+    return leads
+
+
+def all_maps(cars):
+    """All case maps of these cars."""
+    cases = [None, *cars]
+    for leads in permutations(cases):
+        yield dict(zip(cases, leads))

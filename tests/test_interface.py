@@ -30,6 +30,34 @@ FUNCTIONS = {
         "day_before": "(lane, calls)",
         "count_before": "(lane, calls)",
     },
+    "moments": {
+        "lane_at": "(lane, calls, moment)",
+        "next_clear": "(calls, moment)",
+        "nth_clear": "(lane, calls, index)",
+        "count_clear": "(lane, calls, moment)",
+        "clear_cycles": "(calls)",
+    },
+    "crossings": {
+        "crossing_in": "(calls)",
+        "count_cycles": "(calls)",
+        "genus": "(calls)",
+        "gaps_of": "(calls)",
+    },
+    "plans": {
+        "is_case_map": "(value)",
+        "fewest_calls": "(case_map)",
+        "plan_for": "(case_map)",
+        "has_map": "(calls, case_map)",
+        "count_plans": "(case_map, *, size)",
+        "route": "(lane, target)",
+    },
+    "programs": {
+        "is_program": "(value)",
+        "count_calls": "(program)",
+        "cars_of": "(program)",
+        "after_program": "(lane, program)",
+        "map_of": "(program)",
+    },
 }
 
 ERRORS = [
@@ -56,6 +84,13 @@ class Interface(unittest.TestCase):
         days = importlib.import_module("deadlane.days")
         with self.assertRaises(TypeError):
             days.after_days((), CALLS, 2)
+
+    def test_sizes_are_passed_by_keyword_only(self):
+        plans = importlib.import_module("deadlane.plans")
+        with self.assertRaises(TypeError):
+            plans.count_plans({None: None}, 2)
+        with self.assertRaises(TypeError):
+            plans.count_plans({None: None})
 
 
 class Errors(unittest.TestCase):

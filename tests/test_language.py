@@ -24,6 +24,14 @@ LIBRARY = {
     "collections": {"defaultdict", "deque"},
 }
 
+# Methods of the values of Python itself that the package may call.
+METHODS = set("""
+    append clear copy count endswith extend find get index insert isalnum isalpha isdigit islower isspace isupper items
+    join keys ljust lower lstrip partition pop remove replace reverse rfind rjust rpartition rsplit rstrip setdefault
+    split splitlines startswith strip update upper values zfill bit_length isascii isdecimal isprintable removeprefix
+    removesuffix rindex add discard
+""".split())
+
 UNUSED_WORDS = re.compile(
     r"\b(register|mro|elements|open|input|law|version_info|typing|enum|namedtuple|global|async|await|import_module)\b"
 )
@@ -80,6 +88,38 @@ class Files(unittest.TestCase):
                     self.assertIn(alias.name, defined[node.module.split(".")[1]], path)
 
 
+    def test_no_files_import_from_each_other(self):
+        imports = {path.stem: {
+            node.module.split(".")[1] for node in tree.body
+            if isinstance(node, ast.ImportFrom) and node.module.startswith("deadlane.")
+        } for path, tree in trees()}
+        while imports:
+            free = [file for file in imports if not imports[file] & set(imports)]
+            self.assertTrue(free, imports)
+            for file in free:
+                del imports[file]
+
+
+def bound_at_the_top(tree):
+    for node in tree.body:
+        if isinstance(node, (ast.FunctionDef, ast.ClassDef)):
+            yield node.name
+        elif isinstance(node, ast.ImportFrom):
+            yield from [alias.name for alias in node.names]
+        elif isinstance(node, ast.Assign):
+            yield from [target.id for target in node.targets]
+
+
+def parents(tree):
+    return {child: node for node in ast.walk(tree) for child in ast.iter_child_nodes(node)}
+
+
+def calls_of(tree, *names):
+    for node in ast.walk(tree):
+        if isinstance(node, ast.Call) and isinstance(node.func, ast.Name) and node.func.id in names:
+            yield node
+
+
 class Code(unittest.TestCase):
     def test_functions_are_short(self):
         for path, node in nodes(ast.FunctionDef):
@@ -107,6 +147,46 @@ class Code(unittest.TestCase):
         for path, node in nodes(ast.FunctionDef, ast.ClassDef, ast.arg):
             name = node.arg if isinstance(node, ast.arg) else node.name
             self.assertFalse(hasattr(builtins, name), (path, name))
+
+    def test_a_name_is_bound_once_at_the_top_and_not_again_in_functions(self):
+        for path, tree in trees():
+            names = list(bound_at_the_top(tree))
+            self.assertEqual(len(names), len(set(names)), path)
+            for function in ast.walk(tree):
+                if isinstance(function, ast.FunctionDef):
+                    for node in ast.walk(function):
+                        if isinstance(node, ast.arg):
+                            self.assertNotIn(node.arg, names, (path, node.lineno))
+                        elif isinstance(node, ast.Name) and isinstance(node.ctx, ast.Store):
+                            self.assertNotIn(node.id, names, (path, node.lineno))
+
+    def test_methods_of_builtin_values(self):
+        own = {node.name for _, node in nodes(ast.FunctionDef)}
+        for path, node in nodes(ast.Call):
+            if isinstance(node.func, ast.Attribute):
+                self.assertIn(node.func.attr, METHODS | own, (path, node.lineno))
+                self.assertFalse(node.keywords, (path, node.lineno))
+
+    def test_sets_are_only_asked(self):
+        for path, tree in trees():
+            above = parents(tree)
+            for node in [*calls_of(tree, "set"), *[each for each in ast.walk(tree) if isinstance(each, ast.SetComp)]]:
+                use = above[node]
+                kept = isinstance(use, ast.Assign) and len(use.targets) == 1 and isinstance(use.targets[0], ast.Name)
+                measured = use in calls_of(tree, "len", "sorted")
+                self.assertTrue(kept or measured or isinstance(use, ast.Compare), (path, node.lineno))
+
+    def test_kinds_are_compared_on_the_spot(self):
+        for path, tree in trees():
+            above = parents(tree)
+            for node in calls_of(tree, "type"):
+                self.assertIsInstance(above[node], ast.Compare, (path, node.lineno))
+                self.assertTrue(all(isinstance(sign, (ast.Is, ast.IsNot)) for sign in above[node].ops))
+
+    def test_exponents_are_literals(self):
+        for path, node in nodes(ast.BinOp):
+            if isinstance(node.op, ast.Pow):
+                self.assertIsInstance(node.right, ast.Constant, (path, node.lineno))
 
     def test_words_that_are_not_used(self):
         for path, tree in trees():

@@ -4,11 +4,18 @@ import copy
 import unittest
 from itertools import product
 
+from deadlane.crossings import count_cycles, crossing_in, gaps_of, genus
 from deadlane.days import after_days, count_before, cycles_of, day_before, day_map, end_lane, period
-from deadlane.errors import LaneError, NoCalls, NoCar, NoCase, NoDays, NoLane, NotEnd
+from deadlane.errors import (
+    LaneError, NoCalls, NoCar, NoCase, NoDays, NoIndex, NoLane, NoMap, NoMoment, NoProgram, NoSize, NotEnd,
+)
 from deadlane.lanes import after_calls, called, case_of, fixed_part, lanes_from, leaving
+from deadlane.moments import clear_cycles, count_clear, lane_at, next_clear, nth_clear
+from deadlane.plans import count_plans, fewest_calls, has_map, plan_for, route
+from deadlane.programs import after_program, cars_of, count_calls, map_of
 from tests.samples import (
-    CALLS, wrong_calls, wrong_cars, wrong_cases, wrong_days, wrong_ends, wrong_lanes,
+    CALLS, levels, same_map, steps_in_all, wrong_calls, wrong_cars, wrong_cases, wrong_days, wrong_ends,
+    wrong_indexes, wrong_lanes, wrong_maps, wrong_moments, wrong_programs, wrong_sizes, wrong_small_maps,
 )
 
 
@@ -20,12 +27,22 @@ def after_so_many(lane, calls, days):
     return after_days(lane, calls, days=days)
 
 
+def count_so_many(case_map, size):
+    return count_plans(case_map, size=size)
+
+
 # For each parameter: a right value, its wrong ones, the error.
 LANE = ((2, 1), wrong_lanes, NoLane)
 CAR = (1, wrong_cars, NoCar)
 GOOD_CALLS = (CALLS, wrong_calls, NoCalls)
 CASE = (1, wrong_cases, NoCase)
 DAYS = (3, wrong_days, NoDays)
+MOMENT = (5, wrong_moments, NoMoment)
+INDEX = (2, wrong_indexes, NoIndex)
+MAP = ({1: None, None: 1, 2: 2}, wrong_maps, NoMap)
+SMALL_MAP = ({1: 2, None: None, 2: 1}, wrong_small_maps, NoMap)
+SIZE = (3, wrong_sizes, NoSize)
+PROGRAM = ((0, (3, (1, 2)), 1), wrong_programs, NoProgram)
 
 # For each function its parameters in the order in which their errors are listed.
 LISTED = [
@@ -42,6 +59,24 @@ LISTED = [
     (period, [LANE, GOOD_CALLS]),
     (day_before, [LANE, GOOD_CALLS]),
     (count_before, [LANE, GOOD_CALLS]),
+    (lane_at, [LANE, GOOD_CALLS, MOMENT]),
+    (next_clear, [GOOD_CALLS, MOMENT]),
+    (nth_clear, [LANE, GOOD_CALLS, INDEX]),
+    (count_clear, [LANE, GOOD_CALLS, MOMENT]),
+    (clear_cycles, [GOOD_CALLS]),
+    (crossing_in, [GOOD_CALLS]),
+    (count_cycles, [GOOD_CALLS]),
+    (genus, [GOOD_CALLS]),
+    (gaps_of, [GOOD_CALLS]),
+    (fewest_calls, [MAP]),
+    (plan_for, [MAP]),
+    (has_map, [GOOD_CALLS, MAP]),
+    (count_so_many, [SMALL_MAP, SIZE]),
+    (route, [LANE, LANE]),
+    (count_calls, [PROGRAM]),
+    (cars_of, [PROGRAM]),
+    (after_program, [LANE, PROGRAM]),
+    (map_of, [PROGRAM]),
 ]
 
 
@@ -91,6 +126,37 @@ class WrongInputs(unittest.TestCase):
         for days in [-1, 10 ** 30 + 1, True, False, None, "1", (1,)]:
             self.assert_raises_just(NoDays, after_so_many, ((), CALLS, days))
 
+    def test_moments_at_the_limits(self):
+        for moment in [0, 1, 10 ** 36]:
+            for function, arguments in [(lane_at, ((), CALLS)), (next_clear, (CALLS,)), (count_clear, ((), CALLS))]:
+                function(*arguments, moment)
+                for wrong in [-1, 10 ** 36 + 1, True, False, None, "1", (1,)]:
+                    self.assert_raises_just(NoMoment, function, (*arguments, wrong))
+
+    def test_indexes_at_the_limits(self):
+        for index in [0, 1, 10 ** 30]:
+            nth_clear((), CALLS, index)
+        for index in [-1, 10 ** 30 + 1, True, False, None, "1", (1,)]:
+            self.assert_raises_just(NoIndex, nth_clear, ((), CALLS, index))
+
+    def test_sizes_and_maps_at_the_limits(self):
+        for cars, size in product([0, 1, 9], [0, 1, 60]):
+            count_plans(same_map(cars), size=size)
+            self.assert_raises_just(NoMap, count_so_many, (same_map(10), size))
+        for size in [-1, 61, True, False, None, "1", (1,)]:
+            self.assert_raises_just(NoSize, count_so_many, (same_map(9), size))
+            self.assert_raises_just(NoMap, count_so_many, (same_map(10), size))
+
+    def test_programs_at_the_limits(self):
+        for program in [(0,) * 60, steps_in_all(200), levels(8), levels(8, times=10 ** 30)]:
+            for function in [count_calls, cars_of, map_of]:
+                function(program)
+            after_program((), program)
+        for program in [(0,) * 61, steps_in_all(201), levels(9), levels(8, times=10 ** 30 + 1), levels(8, times=0)]:
+            for function in [count_calls, cars_of, map_of]:
+                self.assert_raises_just(NoProgram, function, (program,))
+            self.assert_raises_just(NoProgram, after_program, ((), program))
+
     def test_lanes_that_are_no_end_lanes(self):
         for function in [day_before, count_before]:
             for lane in wrong_ends():
@@ -114,7 +180,8 @@ class Arguments(unittest.TestCase):
         for function, parameters in LISTED:
             arguments = [copy.copy(right) for right, _, _ in parameters]
             function(*arguments)
-            self.assertEqual(arguments, [right for right, _, _ in parameters])
+            # The texts tell the order of the items of a dict, too.
+            self.assertEqual(repr(arguments), repr([right for right, _, _ in parameters]))
 
     def test_wrong_ones_stay_as_they_were(self):
         inner = [3, 1]
