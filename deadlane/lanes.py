@@ -58,9 +58,10 @@ def check_car(value):
 
 def step(lane, car):
     """Return the lane after a call; the arguments are checked already."""
-    if car in lane:
-        return lane[:lane.index(car)]
-    return lane + (car,)
+    longer = lane + (car,)
+    # With the car at the end one look through the lane tells both whether it is there and where.
+    at = longer.index(car)
+    return longer[:at] if at < len(lane) else longer
 
 
 def parts_of(lane, calls):
@@ -110,9 +111,7 @@ def leaving(lane, car):
     """Return the cars that leave at a call, in their order in the lane."""
     check_lane(lane)
     check_car(car)
-    if car in lane:
-        return lane[lane.index(car):]
-    return ()
+    return lane[(lane + (car,)).index(car):]
 
 
 def after_calls(lane, calls):

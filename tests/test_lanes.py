@@ -42,6 +42,10 @@ class Examples(unittest.TestCase):
         self.assertEqual([called((0,), 0), called((), 1), called((1,), 2), called((1, 2), 1)], second)
 
 
+class Whole(int):
+    """An int of a class of its own, which is no bool either."""
+
+
 class IsLaneAndAreCalls(unittest.TestCase):
     def test_lanes(self):
         for lane in [(), (0,), (59,), (59, 0), (3, 1, 2), FULL, FULL[::-1]]:
@@ -67,6 +71,14 @@ class IsLaneAndAreCalls(unittest.TestCase):
         for at, value in enumerate(wrong_calls()):
             with self.subTest(at=at):
                 self.assertIs(are_calls(value), False)
+
+    def test_every_int_but_a_bool_is_an_integer(self):
+        for at in [0, 1, 59]:
+            self.assertEqual([is_lane((Whole(at), 2)), are_calls((2, Whole(at), 2))], [True, True])
+            self.assertEqual(called((7, Whole(at)), Whole(at)), (7,))
+        for at in [-1, 60]:
+            self.assertEqual([is_lane((Whole(at), 2)), are_calls((2, Whole(at), 2))], [False, False])
+        self.assertIs(is_lane((2, Whole(2))), False)
 
     def test_0_and_201_cars_are_no_calls(self):
         self.assertEqual([are_calls((4,) * size) for size in [0, 1, 200, 201]], [False, True, True, False])
