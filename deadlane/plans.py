@@ -88,8 +88,9 @@ def shapes_from(shape):
     numbers = {shape: 0}
     rows = []
     while len(rows) < len(shapes):
+        now = shapes[len(rows)]
         row = []
-        for after in shapes_after(shapes[len(rows)]):
+        for after in shapes_after(now):
             if after not in numbers:
                 numbers[after] = len(shapes)
                 shapes.append(after)
