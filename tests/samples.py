@@ -46,6 +46,11 @@ def wrong_days():
     return [*common_wrong(), None, (), (0,), 10 ** 30 + 1, 10 ** 31, -10 ** 30]
 
 
+def wrong_live_days():
+    """Values that are no number of days that a live lane performs."""
+    return [*wrong_days(), 0]
+
+
 def wrong_moments():
     return [*common_wrong(), None, (), (0,), 10 ** 36 + 1, 10 ** 37, -10 ** 36]
 
@@ -114,6 +119,66 @@ def wrong_programs():
     ]
 
 
+def wrong_texts():
+    """Values that are neither the text of a lane nor that of a program, which may be the text of calls or not."""
+    return [
+        *[value for value in common_wrong() if value not in ("0", "0 1", "-")], None, 0, (), (0,), ["0"], ("0",), b"0",
+        " ", "  ", " 0", "0 ", "0  1", "0 1 ", " 0 1", "0\n", "\n0", "0\n1", "0\t1", "0,1", "0, 1", "(0, 1)", "[0]",
+        "00", "01", "0 01", "007", "60", "61", "99", "0 60", "100", "-1", "- 1", "-0", "+1", "--", "- -", " -", "- ",
+        "0 -", "- 0", "None", "True", "a", "0a", "0x1", "1_0", "1.0", "1e1", "0;1", "\u0661", "\u00b2", "0 \u0662",
+        "1" * 31, "1" * 32, "1" * 3000, "9" * 5000, "0 " * 2000, "()", "*", "*(", "(0)", "0()", "0(1)", "*(0)", "2*0",
+        "2*()", "2*(", "2*)", "2*(0", "2(0)", "2*0)", "0)", "2 *(0)", "2* (0)", "2*( 0)", "2*(0 )", "2*(0))",
+    ]
+
+
+def wrong_lane_texts():
+    return [
+        *wrong_texts(), "0 0", "0 1 0", "59 3 59", "2*(0)", "0 3*(1 2) 1",
+        " ".join([str(car) for car in (*range(60), 0)]), " ".join(["7"] * 300),
+    ]
+
+
+def wrong_program_texts():
+    return [
+        *wrong_texts(), "-", "2*(-)", "0*(1)", "00*(1)", "02*(1)", "-2*(1)", "2*(60)", "2*(01)", "2*(0  1)", "2*(0)(1)",
+        "2*(0)1", "2*(0)*(1)", "2*(0)3*(1)", "2*2*(0)", "2**(0)", "2*((0))", "2*(3)*(0)", "*(2*(0))", "2*(3*(0) 1",
+        "2*(3*(0))) 1", "2*(0)  1", "2*(0) ", " 2*(0)", "2*(0)\n", "2*(0\n1)", "2 *(0)", "2x(0)", "2*[0]", "(2, (0,))",
+        f"{10 ** 30 + 1}*(0)", f"{10 ** 31}*(0)", f"{'9' * 32}*(0)", f"{'1' * 5000}*(0)", "0" * 31 + "1*(0)",
+        " ".join(["7"] * 61), f"2*({' '.join(['7'] * 61)})", "2*(" * 8 + "0" + ")" * 8, "2*(" * 1300 + "0" + ")" * 1300,
+        "2*(" * 1300, ")" * 1300, "2*(" * 1300 + "0", " ".join([f"2*({' '.join(['7'] * 49)})"] * 4 + ["3"]),
+    ]
+
+
+def wrong_operations():
+    """Values that have none of the forms of an operation."""
+    return [
+        *common_wrong(), None, (), 0, "call", ("call",), ("repeat",), ("repeat", CALLS), ("run",), ("undo",), ("log",),
+        ("call", 1, 2), ("repeat", CALLS, 2, 3), ("run", (0,), 1), ["call", 1], ["repeat", CALLS, 1], ["run", (0,)],
+        ("Call", 1), ("call ", 1), ("cal", 1), ("calls", 1), ("", 1), (b"call", 1), (None, 1), (0, 1), (True, 1),
+        (("call", 1),), ("call", "call", 1), (1, "call"), ("lane", ()), ("has", 1), ("preview", ("call", 1)),
+        ([], 1), ({}, 1), (set(), 1), (["call"], 1), (("call",), 1), (Thing(), 1), ("run", (0,), ()), {"call": 1},
+    ]
+
+
+def wrong_rows():
+    """Values that are no row of a console in which a live lane and calls are there."""
+    return [
+        *common_wrong(), None, (), 0, " ", "\n", "x", "help", "Show", "SHOW", "sho", "shows", "show ", " show",
+        "show 1", "show\n", "\nshow", "show -", "undo ", " undo", "undo 1", "period ", "period 1", "map ", "map 0",
+        "genus ", "genus -", "undo\n", "map\n", "lane", "calls", "run", "route", "lane\n", "lane\n1", "lane 1\n",
+        "lane 1\n2", "lane \n", "calls 1\n", "run 1\n", "run 2*(\n1)", "route 1\n", "lane\t1", "lane1", "lane-",
+        " lane 1", "Lane 1", "lanes 1", "call", "days", "after", "clear", "call ", "days ", "after ", "clear ",
+        "call  1", "call 1 ", " call 1", "call 1 2", "call -", "call -1", "call +1", "call 01", "call 00", "call x",
+        "call 1.0", "call 1x", "call 1_0", "call 0x1", "call\n1", "call 1\n", "call None", "call (1)", "call1",
+        "days  1", "days 1 ", "days 01", "days 00", "days -1", "days 1 1", "days x", "days 1e1", "days 1\n",
+        "after  1", "after 1 ", "after 007", "after -1", "after x", "clear  1", "clear 1 ", "clear 01", "clear -1",
+        "clear x", "call " + "1" * 32, "days " + "1" * 32, "after " + "1" * 32, "clear " + "1" * 32,
+        "call " + "0" * 31, "days " + "0" * 30 + "1", "call " + "9" * 3000, "clear " + "9" * 5000, "call \u0661",
+        "days \u00b2", "push 1", "lane=1", ["show"], b"show", ("show",), "show show", "map genus", "call call 1",
+        "lane: 1", "-", "0", "0 1",
+    ]
+
+
 def wrong_cases():
     """Values that are no case of CALLS."""
     return [*common_wrong(), (), (0,), 3, 59, 60, 10 ** 30]
@@ -165,6 +230,49 @@ def slow_day(lane, calls):
     for car in calls:
         lane = slow_call(lane, car)
     return lane
+
+
+def slow_counted_day(lane, calls):
+    """The lane after a day, and what happens in it: cars that drive in, cars that leave and are forced, lengths."""
+    entering = []
+    leaving = []
+    forced = []
+    lengths = [len(lane)]
+    for car in calls:
+        after = slow_call(lane, car)
+        if car not in lane:
+            entering.append(car)
+        gone = lane[len(after):]
+        leaving.extend(gone)
+        forced.extend(gone[1:])
+        lengths.append(len(after))
+        lane = after
+    return lane, (entering, leaving, forced, max(lengths))
+
+
+def slow_count(lane, calls, days):
+    """What happens in so many days: how many cars drive in and leave, {car: how often it is forced}, greatest length.
+
+    Days are played until one begins as another one did; from then on they are counted by rounds.
+    """
+    begun = {}
+    told = []
+    most = len(lane)
+    while len(told) < days and lane not in begun:
+        begun[lane] = len(told)
+        lane, day = slow_counted_day(lane, calls)
+        told.append(day)
+    first = begun[lane] if len(told) < days else len(told)
+    counts = [0, 0, {}]
+    for at, (entering, leaving, forced, longest) in enumerate(told):
+        # As many days as begin like this one.
+        times = 1 if at < first else 1 + (days - 1 - at) // (len(told) - first)
+        counts[0] += times * len(entering)
+        counts[1] += times * len(leaving)
+        for car in forced:
+            counts[2][car] = counts[2].get(car, 0) + times
+        most = max(most, longest)
+    return (*counts, most)
 
 
 def crossed(calls):

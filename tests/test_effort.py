@@ -1,17 +1,20 @@
-"""How much is done for the longest arguments: instructions of the package are counted, which no busy machine changes."""
+"""How much is done for the longest arguments: instructions of the package are counted, however busy the machine is."""
 
 import os
 import sys
 import unittest
 
 import deadlane
+from deadlane.counting import count_entering, count_forced, count_leaving, longest
 from deadlane.crossings import crossing_in, gaps_of, genus
 from deadlane.days import after_days, count_before, cycles_of, day_before, day_map, end_lane, period
 from deadlane.errors import NotEnd
 from deadlane.lanes import after_calls, are_calls, called, case_of, is_lane, leaving
+from deadlane.live import LiveLane
 from deadlane.moments import clear_cycles, count_clear, lane_at, next_clear, nth_clear
 from deadlane.plans import count_plans, has_map, plan_for
 from deadlane.programs import after_program, is_program, map_of
+from deadlane.texts import read_lane, read_program, show_lane, show_program
 from tests.samples import many_times, same_map, steps_in_all
 
 FOLDER = os.path.dirname(deadlane.__file__)
@@ -102,6 +105,32 @@ class Effort(unittest.TestCase):
             self.assert_at_most(30000, is_program, value)
         self.assert_at_most(80000, after_program, FULL, program)
         self.assert_at_most(80000, map_of, program)
+
+    def test_days_are_counted_by_stays(self):
+        mixed = tuple(at * at * 7 // 3 % 60 for at in range(200))
+        for most, calls in [(450000, CALLS), (90000, mixed), (65000, (59,) * 200), (75000, (0, 59) * 100)]:
+            for days in [61, 10 ** 30]:
+                self.assert_at_most(most, count_entering, FULL, calls, days=days)
+                self.assert_at_most(most, count_leaving, (), calls, days=days)
+                self.assert_at_most(most, longest, (), calls, days=days)
+                self.assert_at_most(most, count_forced, FULL, calls, 59, days=days)
+
+    def test_live_lanes(self):
+        live = LiveLane(FULL[1:])
+        for _ in range(100):
+            self.assert_at_most(160, live.call, 59)
+        self.assert_at_most(15000, live.repeat, CALLS, days=10 ** 30)
+        self.assert_at_most(25, live.undo)
+        self.assert_at_most(1000, live.log)
+        self.assert_at_most(2000, live.preview, *live.log()[:12])
+
+    def test_texts(self):
+        program = steps_in_all(200)
+        for most, function, argument in [
+            (2500, show_lane, FULL), (5000, read_lane, show_lane(FULL)), (15000, show_program, program),
+            (40000, read_program, show_program(program)),
+        ]:
+            self.assert_at_most(most, function, argument)
 
 
 if __name__ == "__main__":

@@ -58,6 +58,40 @@ FUNCTIONS = {
         "after_program": "(lane, program)",
         "map_of": "(program)",
     },
+    "counting": {
+        "count_entering": "(lane, calls, *, days)",
+        "count_leaving": "(lane, calls, *, days)",
+        "count_forced": "(lane, calls, car, *, days)",
+        "longest": "(lane, calls, *, days)",
+    },
+    "texts": {
+        "show_lane": "(lane)",
+        "read_lane": "(text)",
+        "show_program": "(program)",
+        "read_program": "(text)",
+    },
+}
+
+CLASSES = {
+    ("live", "LiveLane"): {
+        "__init__": "(self, lane=())",
+        "of": "(cls, *cars)",
+        "lane": "(self)",
+        "innermost": "(self)",
+        "call": "(self, car)",
+        "repeat": "(self, calls, *, days=1)",
+        "run": "(self, program)",
+        "undo": "(self)",
+        "log": "(self)",
+        "preview": "(self, *operations)",
+        "has": "(self, value)",
+        "__len__": "(self)",
+        "__eq__": "(self, other)",
+    },
+    ("console", "Console"): {
+        "__init__": "(self)",
+        "say": "(self, row)",
+    },
 }
 
 ERRORS = [
@@ -80,10 +114,37 @@ class Interface(unittest.TestCase):
                     self.assertIn(name, defined_in(file))
                     self.assertEqual(str(inspect.signature(getattr(module, name))), arguments)
 
+    def test_classes_and_their_methods(self):
+        for (file, name), methods in CLASSES.items():
+            found = getattr(importlib.import_module(f"deadlane.{file}"), name)
+            self.assertIn(name, defined_in(file))
+            self.assertEqual(found.__bases__, (object,))
+            for method, arguments in methods.items():
+                with self.subTest(name=name, method=method):
+                    held = vars(found)[method]
+                    plain = getattr(held, "__func__", getattr(held, "fget", held))
+                    self.assertEqual(str(inspect.signature(plain)), arguments)
+
+    def test_kinds_of_methods(self):
+        methods = vars(importlib.import_module("deadlane.live").LiveLane)
+        self.assertIsInstance(methods["of"], classmethod)
+        self.assertEqual([name for name in methods if isinstance(methods[name], property)], ["lane", "innermost"])
+        self.assertEqual(methods["CARS"], 60)
+
     def test_days_are_passed_by_keyword_only(self):
         days = importlib.import_module("deadlane.days")
         with self.assertRaises(TypeError):
             days.after_days((), CALLS, 2)
+        with self.assertRaises(TypeError):
+            importlib.import_module("deadlane.live").LiveLane().repeat(CALLS, 2)
+        counting = importlib.import_module("deadlane.counting")
+        for function, arguments in [
+            (counting.count_entering, ((), CALLS)), (counting.count_leaving, ((), CALLS)),
+            (counting.longest, ((), CALLS)), (counting.count_forced, ((), CALLS, 1)),
+        ]:
+            for more in [(), (2,)]:
+                with self.assertRaises(TypeError):
+                    function(*arguments, *more)
 
     def test_sizes_are_passed_by_keyword_only(self):
         plans = importlib.import_module("deadlane.plans")

@@ -32,6 +32,14 @@ METHODS = set("""
     removesuffix rindex add discard
 """.split())
 
+# Double-underscore methods that the package may define, and names that no method or attribute of its own may have.
+DUNDERS = {"__init__", "__eq__", "__len__", "__repr__", "__str__"}
+NOT_OWN = set("""
+    items keys values pop update append clear extend insert remove reverse setdefault sort args encode decode hex
+    fromhex format format_map as_integer_ratio bit_count conjugate from_bytes is_integer to_bytes property
+    staticmethod classmethod super
+""".split())
+
 UNUSED_WORDS = re.compile(
     r"\b(register|mro|elements|open|input|law|version_info|typing|enum|namedtuple|global|async|await|import_module)\b"
 )
@@ -146,7 +154,7 @@ class Code(unittest.TestCase):
     def test_no_definition_takes_a_builtin_name(self):
         for path, node in nodes(ast.FunctionDef, ast.ClassDef, ast.arg):
             name = node.arg if isinstance(node, ast.arg) else node.name
-            self.assertFalse(hasattr(builtins, name), (path, name))
+            self.assertFalse(hasattr(builtins, name) and name not in DUNDERS, (path, name))
 
     def test_a_name_is_bound_once_at_the_top_and_not_again_in_functions(self):
         for path, tree in trees():
@@ -165,7 +173,12 @@ class Code(unittest.TestCase):
         for path, node in nodes(ast.Call):
             if isinstance(node.func, ast.Attribute):
                 self.assertIn(node.func.attr, METHODS | own, (path, node.lineno))
-                self.assertFalse(node.keywords, (path, node.lineno))
+                self.assertFalse(node.keywords and node.func.attr not in own, (path, node.lineno))
+
+    def test_lists_stand_where_a_class_compares(self):
+        for path, tree in trees():
+            for node in calls_of(tree, "any", "all", "min", "max", "sum", "sorted"):
+                self.assertNotIsInstance(node.args[0], ast.GeneratorExp, (path, node.lineno))
 
     def test_sets_are_only_asked(self):
         for path, tree in trees():
@@ -201,6 +214,65 @@ class Code(unittest.TestCase):
 
     def test_no_statement_outside_the_subset(self):
         self.assertEqual(nodes(ast.AsyncFunctionDef, ast.AsyncFor, ast.AsyncWith, ast.Await, ast.TryStar), [])
+
+
+def attributes_of(node):
+    """The names that the methods of a class assign to objects."""
+    return {
+        each.attr for each in ast.walk(node) if isinstance(each, ast.Attribute) and isinstance(each.ctx, ast.Store)
+    }
+
+
+class Classes(unittest.TestCase):
+    def setUp(self):
+        self.classes = [(path, node) for path, node in nodes(ast.ClassDef) if path.stem != "errors"]
+        self.methods = [
+            (path, method) for path, node in self.classes for method in node.body if isinstance(method, ast.FunctionDef)
+        ]
+
+    def test_there_are_some(self):
+        self.assertEqual([node.name for _, node in self.classes], ["Console", "LiveLane"])
+
+    def test_bodies_hold_docstrings_plain_values_and_methods(self):
+        for path, node in self.classes:
+            self.assertEqual((node.decorator_list, node.bases, node.keywords), ([], [], []))
+            for at, held in enumerate(node.body):
+                docstring = at == 0 and isinstance(held, ast.Expr)
+                plain = isinstance(held, ast.Assign) and isinstance(held.value, ast.Constant)
+                self.assertTrue(docstring or plain or isinstance(held, ast.FunctionDef), (path, held.lineno))
+
+    def test_decorators(self):
+        for path, method in self.methods:
+            self.assertLessEqual(len(method.decorator_list), 1)
+            for sign in method.decorator_list:
+                self.assertIn(getattr(sign, "id", None), ["property", "classmethod", "staticmethod"], path)
+
+    def test_names(self):
+        for path, method in self.methods:
+            self.assertTrue(method.name in DUNDERS or not method.name.startswith("__"), (path, method.name))
+            self.assertNotIn(method.name, METHODS | NOT_OWN, path)
+        for path, node in self.classes:
+            self.assertFalse(attributes_of(node) & (METHODS | NOT_OWN), path)
+
+    def test_a_name_has_one_meaning_in_a_class(self):
+        for path, node in self.classes:
+            names = [held.name for held in node.body if isinstance(held, ast.FunctionDef)]
+            names.extend([target.id for held in node.body if isinstance(held, ast.Assign) for target in held.targets])
+            names.extend(attributes_of(node))
+            self.assertEqual(len(names), len(set(names)), path)
+
+    def test_properties_and_comparisons_assign_nothing(self):
+        for path, method in self.methods:
+            told = [getattr(sign, "id", None) for sign in method.decorator_list]
+            if "property" in told or method.name in DUNDERS - {"__init__"}:
+                self.assertIsInstance(method.body[-1], ast.Return, (path, method.name))
+                for each in ast.walk(method):
+                    self.assertNotIsInstance(each, (ast.Assign, ast.AugAssign, ast.Delete), (path, method.name))
+
+    def test_init_returns_nothing(self):
+        for path, method in self.methods:
+            if method.name == "__init__":
+                self.assertFalse([each for each in ast.walk(method) if isinstance(each, ast.Return)], path)
 
 
 if __name__ == "__main__":

@@ -4,18 +4,24 @@ import copy
 import unittest
 from itertools import product
 
+from deadlane.console import Console
+from deadlane.counting import count_entering, count_forced, count_leaving, longest
 from deadlane.crossings import count_cycles, crossing_in, gaps_of, genus
 from deadlane.days import after_days, count_before, cycles_of, day_before, day_map, end_lane, period
 from deadlane.errors import (
-    LaneError, NoCalls, NoCar, NoCase, NoDays, NoIndex, NoLane, NoMap, NoMoment, NoProgram, NoSize, NotEnd,
+    LaneError, NoCalls, NoCar, NoCase, NoDays, NoIndex, NoLane, NoMap, NoMoment, NoOperation, NoProgram, NoRow, NoSize,
+    NoText, NotEnd,
 )
 from deadlane.lanes import after_calls, called, case_of, fixed_part, lanes_from, leaving
+from deadlane.live import LiveLane
 from deadlane.moments import clear_cycles, count_clear, lane_at, next_clear, nth_clear
 from deadlane.plans import count_plans, fewest_calls, has_map, plan_for, route
 from deadlane.programs import after_program, cars_of, count_calls, map_of
+from deadlane.texts import read_calls, read_lane, read_program, show_lane, show_program
 from tests.samples import (
-    CALLS, levels, same_map, steps_in_all, wrong_calls, wrong_cars, wrong_cases, wrong_days, wrong_ends,
-    wrong_indexes, wrong_lanes, wrong_maps, wrong_moments, wrong_programs, wrong_sizes, wrong_small_maps,
+    CALLS, levels, same_map, steps_in_all, wrong_calls, wrong_cars, wrong_cases, wrong_days, wrong_ends, wrong_indexes,
+    wrong_lane_texts, wrong_lanes, wrong_live_days, wrong_maps, wrong_moments, wrong_operations, wrong_program_texts,
+    wrong_programs, wrong_rows, wrong_sizes, wrong_small_maps, wrong_texts,
 )
 
 
@@ -31,6 +37,45 @@ def count_so_many(case_map, size):
     return count_plans(case_map, size=size)
 
 
+def counted(function):
+    def so_many(lane, calls, days):
+        return function(lane, calls, days=days)
+
+    so_many.__name__ = function.__name__
+    return so_many
+
+
+def count_forced_so_many(lane, calls, car, days):
+    return count_forced(lane, calls, car, days=days)
+
+
+def live_lane(lane):
+    return LiveLane(lane).lane
+
+
+def live_call(car):
+    return LiveLane.of(2, 1).call(car)
+
+
+def live_repeat(calls, days):
+    return LiveLane.of(2, 1).repeat(calls, days=days)
+
+
+def live_run(program):
+    return LiveLane.of(2, 1).run(program)
+
+
+def live_preview(first, second):
+    return LiveLane.of(2, 1).preview(first, second)
+
+
+def say(row):
+    console = Console()
+    console.say("lane 2 1")
+    console.say("calls 0 1 2 1")
+    return console.say(row)
+
+
 # For each parameter: a right value, its wrong ones, the error.
 LANE = ((2, 1), wrong_lanes, NoLane)
 CAR = (1, wrong_cars, NoCar)
@@ -43,6 +88,12 @@ MAP = ({1: None, None: 1, 2: 2}, wrong_maps, NoMap)
 SMALL_MAP = ({1: 2, None: None, 2: 1}, wrong_small_maps, NoMap)
 SIZE = (3, wrong_sizes, NoSize)
 PROGRAM = ((0, (3, (1, 2)), 1), wrong_programs, NoProgram)
+LIVE_DAYS = (3, wrong_live_days, NoDays)
+OPERATION = (("repeat", CALLS, 2), wrong_operations, NoOperation)
+LANE_TEXT = ("2 1", wrong_lane_texts, NoText)
+CALLS_TEXT = ("0 1 2 1", wrong_texts, NoText)
+PROGRAM_TEXT = ("0 3*(1 2) 1", wrong_program_texts, NoText)
+ROW = ("days 3", wrong_rows, NoRow)
 
 # For each function its parameters in the order in which their errors are listed.
 LISTED = [
@@ -77,7 +128,28 @@ LISTED = [
     (cars_of, [PROGRAM]),
     (after_program, [LANE, PROGRAM]),
     (map_of, [PROGRAM]),
+    (counted(count_entering), [LANE, GOOD_CALLS, DAYS]),
+    (counted(count_leaving), [LANE, GOOD_CALLS, DAYS]),
+    (counted(longest), [LANE, GOOD_CALLS, DAYS]),
+    (count_forced_so_many, [LANE, GOOD_CALLS, CAR, DAYS]),
+    (live_lane, [LANE]),
+    (live_call, [CAR]),
+    (live_repeat, [GOOD_CALLS, LIVE_DAYS]),
+    (live_run, [PROGRAM]),
+    (live_preview, [OPERATION, OPERATION]),
+    (show_lane, [LANE]),
+    (read_lane, [LANE_TEXT]),
+    (read_calls, [CALLS_TEXT]),
+    (show_program, [PROGRAM]),
+    (read_program, [PROGRAM_TEXT]),
+    (say, [ROW]),
 ]
+
+
+def some_of(values, parameters):
+    """Some of the wrong values of one of so many parameters, fewer of them where there are more parameters."""
+    step = 3 if parameters < 4 else 8
+    return values[:40:step] + values[-4:]
 
 
 class WrongInputs(unittest.TestCase):
@@ -106,7 +178,7 @@ class WrongInputs(unittest.TestCase):
                 kind = parameters[first][2]
                 before = [[right] for right, _, _ in parameters[:first]]
                 for which, arguments in enumerate(product(
-                    *before, *[wrong()[:40:3] + wrong()[-4:] for _, wrong, _ in parameters[first:]]
+                    *before, *[some_of(wrong(), len(parameters)) for _, wrong, _ in parameters[first:]]
                 )):
                     with self.subTest(function=function.__name__, first=first, which=which):
                         self.assert_raises_just(kind, function, arguments)
