@@ -43,8 +43,9 @@ class LiveLane:
     def __init__(self, lane=()):
         check_lane(lane)
         self._lane = lane
-        # Each operation stands beside the lane that was there before it.
         self._done = []
+        # The lane before each of these operations, since not every operation can be played backwards.
+        self._lanes = []
 
     @classmethod
     def of(cls, *cars):
@@ -64,7 +65,8 @@ class LiveLane:
     def _perform(self, operation):
         """Perform an operation as it is written in a log; change nothing if it raises an error."""
         after = after_operation(self._lane, operation)
-        self._done.append((operation, self._lane))
+        self._done.append(operation)
+        self._lanes.append(self._lane)
         self._lane = after
 
     def call(self, car):
@@ -87,11 +89,12 @@ class LiveLane:
         """Revert the last operation that is not undone."""
         if not self._done:
             raise Nothing("there is no operation that is not undone")
-        _, self._lane = self._done.pop()
+        self._done.pop()
+        self._lane = self._lanes.pop()
 
     def log(self):
         """Return the list of the operations that are not undone."""
-        return [operation for operation, _ in self._done]
+        return list(self._done)
 
     def preview(self, *operations):
         """Return the lane after operations as they are written in a log, without performing them on this lane."""
